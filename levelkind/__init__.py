@@ -1,0 +1,1 @@
+"""The kinds of level surfaces in grids of halved cells."""
