@@ -155,3 +155,131 @@ def components(rows):
         members = [row] + [member for group in near for member in group[0]]
         found.append((members, set(row).union(*[group[1] for group in near])))
     return [members for members, _ in found]
+
+
+def pair(number):
+    number = Fraction(number)
+    return (number.numerator, number.denominator)
+
+
+def levels(mesh, many=5):
+    """Some levels: numbers of points, ones between two, just beyond all and far beyond."""
+    numbers = sorted(set(mesh.points.values()))
+    picked = sorted(set(numbers[::max(1, len(numbers) // many)] + numbers[-1:]))
+    found = [numbers[0] - 1, numbers[0] - Fraction(1, 10 ** 6), numbers[-1] + Fraction(1, 999983), numbers[-1] + 1]
+    between = [(numbers[numbers.index(low) + 1] + 3 * low) / 4 for low in picked if low != numbers[-1]]
+    return sorted(found + picked + between)
+
+
+def near(mesh):
+    """The neighbours of each point."""
+    found = {place: set() for place in mesh.points}
+    for one, other in mesh.edges():
+        found[one].add(other)
+    return found
+
+
+def simplices(mesh):
+    """All points, edges, triangles and tetrahedra, as ascending tuples."""
+    found = set()
+    for row in mesh.all_tetrahedra():
+        for bits in range(1, 16):
+            found.add(tuple(place for k, place in enumerate(row) if bits >> k & 1))
+    return found
+
+
+def pieces(beside, inside):
+    """The sets in which these points hang together by edges."""
+    left = set(inside)
+    found = []
+    while left:
+        waiting = [left.pop()]
+        group = set(waiting)
+        while waiting:
+            fresh = beside[waiting.pop()] & left
+            left -= fresh
+            group |= fresh
+            waiting += fresh
+        found.append(group)
+    return found
+
+
+def is_on_border(size, place):
+    return any(place[k] in (0, 8 * size[k]) for k in range(3))
+
+
+def euler(parts):
+    return sum(1 if len(part) % 2 else -1 for part in parts)
+
+
+class Kinds:
+    """The kinds in a mesh, each from its own frame."""
+
+    def __init__(self, grid):
+        self.mesh = Mesh(grid)
+        self.near = near(self.mesh)
+        self.parts = simplices(self.mesh)
+
+    def kind(self, level):
+        return self.of({place for place in self.mesh.points if self.mesh.points[place] >= level})
+
+    def kind_below(self, level):
+        return self.of({place for place in self.mesh.points if self.mesh.points[place] < level})
+
+    def of(self, inside):
+        many = len(pieces(self.near, inside))
+        outside = pieces(self.near, set(self.mesh.points) - inside)
+        hollows = sum(not any(is_on_border(self.mesh.size, place) for place in group) for group in outside)
+        return (many, many + hollows - euler(part for part in self.parts if inside.issuperset(part)), hollows)
+
+    def order(self):
+        return sorted(self.mesh.points, key=lambda place: (self.mesh.points[place], place))
+
+    def around(self, place):
+        """The numbers of the parts around a point, by the rows of the mesh that the point makes with others."""
+        mark = (self.mesh.points[place], place)
+        upper = {other for other in self.near[place] if (self.mesh.points[other], other) > mark}
+        link = {part for part in self.parts
+                if upper.issuperset(part) and tuple(sorted(part + (place,))) in self.parts}
+        edges = {point: set() for point in upper}
+        for part in link:
+            if len(part) == 2:
+                edges[part[0]].add(part[1])
+                edges[part[1]].add(part[0])
+        return (len(pieces(edges, upper)), euler(link))
+
+
+def betti(parts):
+    """The dimensions of the homology of a set of simplices, over the field of two numbers."""
+    rows = [sorted(part for part in parts if len(part) == many) for many in range(1, 6)]
+    ranks = [0]
+    for low, high in zip(rows, rows[1:]):
+        at = {part: k for k, part in enumerate(low)}
+        pivots = {}
+        for part in high:
+            column = sum(1 << at[part[:k] + part[k + 1:]] for k in range(len(part)))
+            while column and column.bit_length() in pivots:
+                column ^= pivots[column.bit_length()]
+            if column:
+                pivots[column.bit_length()] = column
+        ranks.append(len(pivots))
+    return tuple(len(rows[k]) - ranks[k] - ranks[k + 1] for k in range(4))
+
+
+def greatest_joined(mesh, beside, one, other):
+    """The greatest number at which two points lie in one piece, tried one after the other."""
+    for number in sorted(set(mesh.points.values()), reverse=True):
+        if mesh.points[one] >= number and mesh.points[other] >= number:
+            inside = {place for place in mesh.points if mesh.points[place] >= number}
+            if any({one, other} <= group for group in pieces(beside, inside)):
+                return number
+
+
+def is_wall(mesh, beside, one, other, number, places):
+    """Whether a list of places is a wall."""
+    if not places:
+        return mesh.points[one] <= number
+    inside = set(places)
+    if len(inside) != len(places) or not inside <= set(mesh.points) or one not in inside or other in inside:
+        return False
+    return all(mesh.points[near_by] <= number for place in places for near_by in beside[place] - inside)
